@@ -1,0 +1,1 @@
+"""phrasejoins: which phrases "and" can join, by the free group of types."""

@@ -1,0 +1,26 @@
+"""What the arguments of several modules are judged by."""
+
+from phrasejoins.errors import InvalidRow
+from phrasejoins.forms import is_kind
+
+
+def are_kinds(value):
+    """Whether any object is a list, perhaps empty, of types."""
+    return isinstance(value, list) and all([is_kind(kind) for kind in value])
+
+
+def is_row(value):
+    """Whether any object is a list, not empty, of types."""
+    return are_kinds(value) and len(value) > 0
+
+
+def check_row(row):
+    """Raises InvalidRow unless this is a list, not empty, of types."""
+    if not is_row(row):
+        raise InvalidRow(row)
+
+
+def check_stretch(kinds):
+    """Raises InvalidRow unless this is a list, perhaps empty, of types."""
+    if not are_kinds(kinds):
+        raise InvalidRow(kinds)

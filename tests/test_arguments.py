@@ -1,0 +1,120 @@
+"""The general rules, and the interface, of every function: names, wrong arguments, what is changed."""
+
+import copy
+import importlib
+import inspect
+import unittest
+
+from phrasejoins import errors
+from tests.table import FUNCTIONS
+
+INTERFACE = {
+    "forms": [
+        "is_kind(value)", "signs_of(kind)", "plains_of(kind)", "is_free(kind)", "turned(kind)", "put_for(kind, sent)",
+        "all_kinds(plains, number)", "many_kinds(plains, number)",
+    ],
+    "derivations": [
+        "is_derivation(value)", "told_by(derivation)", "is_derivation_of(row, goal, value)", "knots_of(derivation)",
+        "cuts_of(derivation)", "turned_derivation(derivation)", "with_put(derivation, sent)", "plain_out(derivation)",
+        "cut_in(one, other, place)",
+    ],
+    "giving": [
+        "steps_back(row, goal)", "gives(row, goal)", "derivation_of(row, goal)", "bar_of(row, goal)",
+        "is_bar(row, goal, value)", "without_cuts(derivation)", "waits_for(ahead, goal, behind)",
+    ],
+}
+
+
+def emptied(result):
+    """Empties every list and dictionary in a result."""
+    if isinstance(result, (list, tuple)):
+        for part in list(result):
+            emptied(part)
+    if isinstance(result, dict):
+        for part in list(result.values()):
+            emptied(part)
+    if isinstance(result, (list, dict)):
+        result.clear()
+
+
+class Arguments(unittest.TestCase):
+    def assert_raised(self, function, arguments, made, value):
+        with self.assertRaises(errors.PhraseError) as caught:
+            function(*arguments)
+        self.assertIs(type(caught.exception), made, (function, arguments))
+        self.assertIs(caught.exception.value, value, (function, arguments))
+
+    def test_interface(self):
+        listed = [(name, told) for name, many in INTERFACE.items() for told in many]
+        self.assertEqual(len(listed), len(FUNCTIONS))
+        for name, told in listed:
+            module = importlib.import_module("phrasejoins." + name)
+            function = getattr(module, told.partition("(")[0])
+            self.assertEqual(function.__module__, "phrasejoins." + name)
+            self.assertEqual(function.__name__ + str(inspect.signature(function)), told)
+            self.assertIn(function, [entry[0] for entry in FUNCTIONS])
+
+    def test_by_place_and_by_name(self):
+        for function, parameters in FUNCTIONS:
+            by_place = function(*[right for name, right, made, wrong in parameters])
+            by_name = function(**{name: right for name, right, made, wrong in parameters})
+            self.assertEqual(repr(by_place), repr(by_name))
+
+    def test_each_wrong_argument(self):
+        for function, parameters in FUNCTIONS:
+            for place, (name, right, made, many_wrong) in enumerate(parameters):
+                for wrong in many_wrong:
+                    arguments = [right for _, right, _, _ in parameters]
+                    arguments[place] = wrong
+                    if made is None:
+                        self.assertIs(function(*arguments), False, (function, arguments))
+                    else:
+                        self.assert_raised(function, arguments, made, wrong)
+
+    def test_the_first_wrong_argument_is_told(self):
+        for function, parameters in FUNCTIONS:
+            for place, (name, right, made, many_wrong) in enumerate(parameters):
+                if made is None:
+                    continue
+                for later in range(place + 1, len(parameters)):
+                    for wrong, other in zip(many_wrong, parameters[later][3]):
+                        arguments = [right for _, right, _, _ in parameters]
+                        arguments[place] = wrong
+                        arguments[later] = other
+                        self.assert_raised(function, arguments, made, wrong)
+
+    def test_judges_judge_anything(self):
+        everything = [wrong for function, parameters in FUNCTIONS for entry in parameters for wrong in entry[3]]
+        for function, parameters in FUNCTIONS:
+            if parameters[-1][0] == "value":
+                rights = [entry[1] for entry in parameters[:-1]]
+                for value in everything:
+                    self.assertIn(function(*rights, value), [True, False])
+
+    def test_arguments_are_not_changed(self):
+        for function, parameters in FUNCTIONS:
+            arguments = [right for name, right, made, wrong in parameters]
+            kept = copy.deepcopy(arguments)
+            function(*arguments)
+            self.assertEqual(repr(arguments), repr(kept))
+
+    def test_results_are_new_and_equal(self):
+        for function, parameters in FUNCTIONS:
+            arguments = [right for name, right, made, wrong in parameters]
+            first = function(*arguments)
+            told = repr(first)
+            self.assertEqual(repr(function(*arguments)), told)
+            emptied(first)
+            self.assertEqual(repr(function(*arguments)), told)
+
+    def test_results_do_not_hold_arguments(self):
+        for function, parameters in FUNCTIONS:
+            arguments = copy.deepcopy([right for name, right, made, wrong in parameters])
+            result = function(*arguments)
+            told = repr(result)
+            emptied(arguments)
+            self.assertEqual(repr(result), told)
+
+
+if __name__ == "__main__":
+    unittest.main()
