@@ -5,58 +5,21 @@ many signs the goal has.
 """
 
 from phrasejoins.knots import folded_knots
-from phrasejoins.trees import from_inside
+from phrasejoins.measured import Knot, measured_knot, place_used, tuple_of
 
 _MADE = ("over made", "under made", "then made")
 
 
-class Knot:
-    """A knot with its place (None if it has none), its type if it is an "is", and its row's number of types."""
-
-    def __init__(self, name, place, kind, parts):
-        self.name = name
-        self.place = place
-        self.kind = kind
-        self.parts = parts
-        self.width = _width(name, parts)
-
-
-def _width(name, parts):
-    """How many types the row has that a knot without a cut tells."""
-    if name == "is":
-        return 1
-    many = sum([part.width for part in parts])
-    return many - 1 if name in ("over made", "under made", "then used") else many
-
-
 def derivation_without_cuts(derivation):
     """A derivation without cuts that tells what a derivation tells."""
-    return from_inside(folded_knots(derivation, _knot_at), _parts_of, _as_tuple)
+    return tuple_of(folded_knots(derivation, _knot_at))
 
 
 def _knot_at(knot, parts):
     """A knot, of those in it, as one without cuts."""
-    name = knot[0]
-    if name == "is":
-        return Knot(name, None, knot[1], [])
-    if name in _MADE:
-        return Knot(name, None, None, parts)
-    if name == "cut":
+    if knot[0] == "cut":
         return _cut_away(parts[0], parts[1], knot[1])
-    return Knot(name, knot[1], None, parts)
-
-
-def _parts_of(knot):
-    return knot.parts
-
-
-def _as_tuple(knot, parts):
-    """The tuple of a knot, by those of the knots in it."""
-    if knot.name == "is":
-        return ("is", knot.kind)
-    if knot.place is None:
-        return (knot.name, *parts)
-    return (knot.name, knot.place, *parts)
+    return measured_knot(knot, parts)
 
 
 def _cut_away(one, other, place):
@@ -98,22 +61,13 @@ def _moved(one, other, place):
     """The open knot around a cut that is one step further in, and this cut's two knots and place."""
     if one.name not in _MADE:
         return _moved_into_one(one, other, place)
-    if place == _place_used(other):
+    if place == place_used(other):
         return _met(one, other)
     if other.name in _MADE:
         return _moved_into_made(one, other, place)
     if other.name == "then used":
         return _moved_into_then(one, other, place)
     return _moved_into_used(one, other, place)
-
-
-def _place_used(knot):
-    """The place of the type that a knot uses, None if it uses none."""
-    if knot.name in _MADE:
-        return None
-    if knot.name == "under used":
-        return knot.place + knot.parts[0].width
-    return knot.place
 
 
 def _moved_into_one(one, other, place):

@@ -2,6 +2,7 @@
 
 from phrasejoins.errors import InvalidKind, PhraseError, Refused
 from phrasejoins.pool import Pool
+from phrasejoins.worlds import World
 
 GOES = ("under", "n", "s")
 SEES = ("over", GOES, "n")
@@ -37,8 +38,14 @@ DERIVATIONS = [
     (("then used", 1, ("over used", 1, IS_N, STEP)), ["n", ("then", SEES, "n")], "s"),
 ]
 
-# Fresh ones of classes of the package, of no use as any argument.
-OBJECTS = [PhraseError(), InvalidKind("n"), Refused(), Pool()]
+# Of the things even and odd, as numbers are added.
+PARITY = {("even", "even"): "even", ("even", "odd"): "odd", ("odd", "even"): "odd", ("odd", "odd"): "even"}
+PARITY_LOTS = {"n": ["odd"], "s": ["even"]}
+WORLD = World(PARITY, PARITY_LOTS)
+
+# Fresh ones of classes of the package, of no use as any argument but as a world.
+NO_WORLD_OBJECTS = [PhraseError(), InvalidKind("n"), Refused(), Pool()]
+OBJECTS = NO_WORLD_OBJECTS + [WORLD]
 
 NO_KINDS = [
     None, True, False, 0, 1, -1, 10 ** 29, "", "N", "n1", "ninechars", "two words", "n\n", "\tn", "n ", "n~",
@@ -97,6 +104,58 @@ NO_DERIVATIONS = [
     ("cut", 0, MADE, STEP), ("cut", 1, IS_N, STEP), ("over used", 0, ("cut", 0, IS_N, IS_S), IS_S),
     ("over made", ("cut", 0, IS_N, IS_S)), ("then made", IS_N, ("over made", IS_N)),
     ("then made", IS_N, ("then used", 0, IS_N)),
+] + OBJECTS
+
+NO_LETTERS = [
+    None, True, False, 0, 1, "", "n", (), ("n", 1), (("n", 1),), {}, {"n": 1}, {("n", 1): True}, ["n"], ["n", 1], [1],
+    [None], [()], [("n",)], [("n", 0)], [("n", 2)], [("n", -2)], [("n", True)], [("n", False)], [("n", "1")],
+    [("n", None)], [("n", [1])], [["n", 1]], [("N", 1)], [("", 1)], [("ninechars", 1)], [(1, "n")], [(1, 1)],
+    [("n", 1, 1)], [(("n",), 1)], [("n", 1), ("n", -1)], [("n", -1), ("n", 1)], [("s", 1), ("n", -1), ("n", 1)],
+    [("n", 1), ("s", 1), ("s", -1), ("n", 1)], [("n", 1), None], [("n", 1), "n"], [{}], [[]], [("n", 10 ** 29)],
+    [("n", 1), ("s", True)], [GOES], [Pool()],
+] + OBJECTS
+
+NO_TURNS = [
+    None, True, False, 0, "", "n", [], ["n"], [("n", [0])], (), (("n", [0]),), {}, {"n": []}, {"n": [1]}, {"n": [0, 0]},
+    {"n": [1, 2]}, {"n": [-1, 0]}, {"n": [0, 2]}, {"n": [0, 1], "s": [0]}, {"n": [0], "s": [1, 0]}, {"n": (0,)},
+    {"n": (0, 1), "s": [0, 1]}, {"n": [False]}, {"n": [False, True]}, {"n": [0, True]}, {"n": None}, {"n": 0},
+    {"n": "0"}, {"n": ["0"]}, {"n": [[0]]}, {"n": [None]}, {"n": {0: 0}}, {"N": [0]}, {"": [0]}, {1: [0]}, {None: [0]},
+    {("n",): [0]}, {"n": [0], "s": [0], 1: [0]}, {"n": [0], "s": []}, {"n": [0], "s": [0], "t": [0, 1]},
+    {"ninechars": [0]}, {"n": [10 ** 29]}, {GOES: [0]},
+] + OBJECTS
+
+NO_TABLES = [
+    None, True, False, 0, "", "a", [], (), {}, [("a", "a")], [(("a", "a"), "a")], (("a", "a"), "a"), {"a": "a"},
+    {("a",): "a"}, {("a", "a", "a"): "a"}, {("a", "a"): None}, {("a", "a"): "b"}, {("a", "a"): ["a"]},
+    {("a", "a"): ("a",)}, {("a", "a"): True}, {("A", "A"): "A"}, {("", ""): ""}, {(1, 1): 1}, {(True, True): True},
+    {("a", None): "a"}, {(("a",), ("a",)): ("a",)}, {("a", "b"): "a"}, {("a", "b"): "a", ("b", "a"): "a"},
+    {("ninechars", "ninechars"): "ninechars"}, {**PARITY, ("odd", "odd"): "none"}, {**PARITY, ("odd", "odd"): True},
+    {**PARITY, ("odd", "none"): "odd"}, {**PARITY, "odd": "odd"}, {**PARITY, None: "odd"}, {**PARITY, ("a",): "odd"},
+    {pair: end for pair, end in PARITY.items() if pair != ("odd", "odd")},
+    {pair: end for pair, end in PARITY.items() if pair != ("even", "odd")},
+    # Not associative: each of these has just one thing amiss.
+    {**PARITY, ("even", "even"): "odd"}, {**PARITY, ("even", "odd"): "even"},
+    {("a", "a"): "b", ("a", "b"): "a", ("b", "a"): "a", ("b", "b"): "a"},
+] + OBJECTS
+
+# Of the things even and odd.
+NO_LOTS = [
+    None, True, False, 0, "", "n", [], ["odd"], (), {}, ("n", ["odd"]), [("n", ["odd"])], {"n": None}, {"n": "odd"},
+    {"n": ("odd",)}, {"n": ()}, {"n": {}}, {"n": {"odd": True}}, {"n": ["none"]}, {"n": [None]}, {"n": [True]},
+    {"n": [["odd"]]}, {"n": ["odd", "even"]}, {"n": ["odd", "odd"]}, {"n": ["even", "odd", "odd"]}, {"n": ["n"]},
+    {"n": ["even", "none"]}, {"n": [("odd", "odd")]}, {"N": ["odd"]}, {"": ["odd"]}, {1: ["odd"]}, {None: ["odd"]},
+    {("n",): ["odd"]}, {"ninechars": ["odd"]}, {"n": ["odd"], "s": ["odd", "even"]}, {"n": ["odd"], "s": None},
+    {"n": ["odd"], "s": ["even"], 1: []}, {GOES: ["odd"]}, {"n": [WORLD]}, {"n": ["odd"], "n s": []},
+] + OBJECTS
+
+NO_WORLDS = [
+    None, True, False, 0, 1, "", "n", "world", [], (), {}, PARITY, PARITY_LOTS, (PARITY, PARITY_LOTS),
+    [PARITY, PARITY_LOTS], {"n": ["odd"]}, [WORLD], (WORLD,), {"world": WORLD}, World,
+] + NO_WORLD_OBJECTS
+
+NO_THINGS = [
+    None, True, False, 0, 1, "", "n", "none", "Odd", "odd ", [], ["odd"], (), ("odd",), ("odd", "odd"), {}, {"odd": 1},
+    GOES,
 ] + OBJECTS
 
 
@@ -158,6 +217,82 @@ def _plain_letters(kind):
     if kind[0] == "under":
         return [(word, -sign) for word, sign in first[::-1]] + second
     return first + second
+
+
+def slow_readings(row, goal):
+    """How many readings of a goal a row (a tuple) has, written out as the document tells it."""
+    if not isinstance(goal, str):
+        if goal[0] == "over":
+            return slow_readings(row + (goal[2],), goal[1])
+        return slow_readings((goal[1],) + row, goal[2])
+    many = 0
+    for place, kind in enumerate(row):
+        head, behind, ahead = _slow_waits(kind)
+        if head == goal:
+            # Ahead, the nearest row is the last one.
+            many += _slow_cuts(row[place + 1:], behind) * _slow_cuts(row[:place], ahead[::-1])
+    return many
+
+
+def _slow_waits(kind):
+    if isinstance(kind, str):
+        return kind, [], []
+    if kind[0] == "over":
+        head, behind, ahead = _slow_waits(kind[1])
+        return head, [kind[2]] + behind, ahead
+    head, behind, ahead = _slow_waits(kind[2])
+    return head, behind, [kind[1]] + ahead
+
+
+def _slow_cuts(row, goals):
+    if not goals:
+        return 0 if row else 1
+    return sum(slow_readings(row[:end], goals[0]) * _slow_cuts(row[end:], goals[1:]) for end in range(1, len(row) + 1))
+
+
+def all_derivations(row, goal):
+    """All derivations without cuts, "is" used of plain types alone."""
+    found = [("is", goal)] if row == [goal] and isinstance(goal, str) else []
+    if not isinstance(goal, str):
+        sign, first, second = goal
+        if sign == "over":
+            found += [("over made", made) for made in all_derivations(row + [second], first)]
+        if sign == "under":
+            found += [("under made", made) for made in all_derivations([first] + row, second)]
+        if sign == "then":
+            found += [("then made", one, other) for k in range(1, len(row))
+                      for one in all_derivations(row[:k], first) for other in all_derivations(row[k:], second)]
+    for place, kind in enumerate(row):
+        if not isinstance(kind, str):
+            found += _all_using(row, goal, place)
+    return found
+
+
+def _all_using(row, goal, place):
+    sign, first, second = row[place]
+    ahead, behind = row[:place], row[place + 1:]
+    if sign == "then":
+        return [("then used", place, made) for made in all_derivations(ahead + [first, second] + behind, goal)]
+    if sign == "over":
+        return [("over used", place, one, other) for k in range(1, len(behind) + 1)
+                for one in all_derivations(behind[:k], second)
+                for other in all_derivations(ahead + [first] + behind[k:], goal)]
+    return [("under used", k, one, other) for k in range(place)
+            for one in all_derivations(ahead[k:], first)
+            for other in all_derivations(ahead[:k] + [second] + behind, goal)]
+
+
+def slow_lot(table, lots, kind):
+    """The lot of a type, as a set, written out as the document tells it."""
+    if isinstance(kind, str):
+        return set(lots[kind])
+    sign, first, second = kind[0], slow_lot(table, lots, kind[1]), slow_lot(table, lots, kind[2])
+    things = {thing for pair in table for thing in pair}
+    if sign == "over":
+        return {x for x in things if all(table[x, y] in first for y in second)}
+    if sign == "under":
+        return {x for x in things if all(table[y, x] in second for y in first)}
+    return {table[x, y] for x in first for y in second}
 
 
 def slow_bar(row, goal, bar, steps_back):

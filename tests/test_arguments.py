@@ -6,6 +6,7 @@ import inspect
 import unittest
 
 from phrasejoins import errors
+from phrasejoins.worlds import World
 from tests.table import FUNCTIONS
 
 INTERFACE = {
@@ -22,7 +23,37 @@ INTERFACE = {
         "steps_back(row, goal)", "gives(row, goal)", "derivation_of(row, goal)", "bar_of(row, goal)",
         "is_bar(row, goal, value)", "without_cuts(derivation)", "waits_for(ahead, goal, behind)",
     ],
+    "readings": ["head_of(kind)", "waits_of(kind)", "many_readings(row, goal)"],
+    "letters": [
+        "are_letters(value)", "letters_of(kind)", "letters_of_row(row)", "put_letters(one, other)",
+        "turned_back(letters)", "may_give(row, goal)", "are_round(one, other)", "plain_form(letters, plain)",
+        "turn_of(turns, kind)", "parting_turns(one, other)", "are_parting_turns(one, other, value)",
+    ],
+    "links": [
+        "knots_ahead(row, goal)", "links_of(derivation)", "between(row, goal, first, last)",
+        "is_between(row, goal, first, last, value)",
+    ],
+    "worlds": [
+        "World(table, lots)", "lot_of(world, kind)", "lot_of_row(world, row)", "many_ways(world, row, thing)",
+        "holds(world, row, kind)", "escaping(world, row, kind)", "parting_world(row, kind, many)",
+        "is_parting_world(row, kind, value)", "rows_giving(kinds, kind, number)", "turned_world(world)",
+        "all_tables(many)",
+    ],
 }
+
+# The methods of each class, with their parameters.
+METHODS = {World: ["table()", "lots()", "things()", "plains()", "__eq__(other)"]}
+
+
+def shown(value):
+    """The text of any result or argument, worlds with all that they tell."""
+    if isinstance(value, World):
+        return f"World({shown(value.table())}, {shown(value.lots())}, {value.things()}, {value.plains()})"
+    if isinstance(value, dict):
+        return "{" + ", ".join(f"{shown(key)}: {shown(part)}" for key, part in value.items()) + "}"
+    if isinstance(value, (list, tuple)):
+        return f"{type(value).__name__}({', '.join(shown(part) for part in value)})"
+    return repr(value)
 
 
 def emptied(result):
@@ -35,6 +66,8 @@ def emptied(result):
             emptied(part)
     if isinstance(result, (list, dict)):
         result.clear()
+    if isinstance(result, World):
+        emptied([result.table(), result.lots(), result.things(), result.plains()])
 
 
 class Arguments(unittest.TestCase):
@@ -54,11 +87,19 @@ class Arguments(unittest.TestCase):
             self.assertEqual(function.__name__ + str(inspect.signature(function)), told)
             self.assertIn(function, [entry[0] for entry in FUNCTIONS])
 
+    def test_methods(self):
+        for made, many in METHODS.items():
+            for told in many:
+                name, _, parameters = told.partition("(")
+                self.assertIn(name, vars(made))
+                self.assertEqual(str(inspect.signature(vars(made)[name])), "(self" + (", " + parameters if
+                                 parameters != ")" else ")"))
+
     def test_by_place_and_by_name(self):
         for function, parameters in FUNCTIONS:
             by_place = function(*[right for name, right, made, wrong in parameters])
             by_name = function(**{name: right for name, right, made, wrong in parameters})
-            self.assertEqual(repr(by_place), repr(by_name))
+            self.assertEqual(shown(by_place), shown(by_name))
 
     def test_each_wrong_argument(self):
         for function, parameters in FUNCTIONS:
@@ -96,24 +137,24 @@ class Arguments(unittest.TestCase):
             arguments = [right for name, right, made, wrong in parameters]
             kept = copy.deepcopy(arguments)
             function(*arguments)
-            self.assertEqual(repr(arguments), repr(kept))
+            self.assertEqual(shown(arguments), shown(kept))
 
     def test_results_are_new_and_equal(self):
         for function, parameters in FUNCTIONS:
             arguments = [right for name, right, made, wrong in parameters]
             first = function(*arguments)
-            told = repr(first)
-            self.assertEqual(repr(function(*arguments)), told)
+            told = shown(first)
+            self.assertEqual(shown(function(*arguments)), told)
             emptied(first)
-            self.assertEqual(repr(function(*arguments)), told)
+            self.assertEqual(shown(function(*arguments)), told)
 
     def test_results_do_not_hold_arguments(self):
         for function, parameters in FUNCTIONS:
             arguments = copy.deepcopy([right for name, right, made, wrong in parameters])
             result = function(*arguments)
-            told = repr(result)
+            told = shown(result)
             emptied(arguments)
-            self.assertEqual(repr(result), told)
+            self.assertEqual(shown(result), told)
 
 
 if __name__ == "__main__":

@@ -34,6 +34,55 @@ raised = ("over", "s", goes)
 # [[[(['n'], 'n'), (['s'], 's')]], [], True, None, True]
 """
 
+READINGS = """\
+from phrasejoins.readings import head_of, many_readings, waits_of
+goes = ("under", "n", "s")
+sees = ("over", goes, "n")
+[head_of(sees), waits_of(sees), waits_of(("over", "s", goes))]
+# ['s', (['n'], ['n']), ([('under', 'n', 's')], [])]
+[many_readings(["n", sees, "n"], "s"), many_readings([("over", "s", "s"), "s", ("under", "s", "s")], "s"), many_readings([("over", "s", "s"), ("over", "s", "s"), "s", ("under", "s", "s")], "s"), many_readings(["n"], "s")]
+# [1, 2, 3, 0]
+"""
+
+LETTERS = """\
+from phrasejoins.letters import are_letters, are_parting_turns, are_round, letters_of, letters_of_row, may_give, parting_turns, plain_form, put_letters, turn_of, turned_back
+goes = ("under", "n", "s")
+[letters_of(goes), letters_of(("over", "p", ("over", "p", "p"))), letters_of_row(["n", goes]), turned_back([("n", 1), ("s", -1)]), put_letters([("n", 1)], [("n", -1), ("s", 1)])]
+# [[('n', -1), ('s', 1)], [('p', 1)], [('s', 1)], [('s', 1), ('n', -1)], [('s', 1)]]
+[may_give([goes], "s"), are_round([("n", 1), ("s", 1)], [("s", 1), ("n", 1)]), are_letters([("n", 1), ("n", -1)]), plain_form([("n", -1), ("s", 1)], "n"), turn_of({"n": [1, 2, 0], "s": [1, 0, 2]}, goes)]
+# [False, True, False, ('then', ('over', ('over', 'n', 'n'), 'n'), 's'), [2, 1, 0]]
+[are_parting_turns("n", "s", {"n": [1, 0], "s": [0, 1]}), are_parting_turns("n", ("over", "s", goes), {"n": [1, 0], "s": [0, 1]}), parting_turns("n", ("over", "s", goes)), are_parting_turns("n", "s", parting_turns("n", "s"))]
+# [True, False, None, True]
+"""
+
+WORLDS = """\
+from phrasejoins.worlds import World, all_tables, escaping, holds, is_parting_world, lot_of, lot_of_row, many_ways, parting_world, rows_giving, turned_world
+goes = ("under", "n", "s")
+table = {("even", "even"): "even", ("even", "odd"): "odd", ("odd", "even"): "odd", ("odd", "odd"): "even"}
+world = World(table, {"n": ["odd"], "s": ["even"]})
+[world.things(), world.plains(), lot_of(world, goes), lot_of(world, ("over", "s", goes)), lot_of(world, ("then", "n", "n")), lot_of_row(world, ["n", goes, "n"])]
+# [['even', 'odd'], ['n', 's'], ['odd'], ['odd'], ['even'], ['odd']]
+[holds(world, ["n", goes], "s"), holds(world, ["n", "n"], "s"), escaping(world, ["n"], "s"), many_ways(world, ["n", "n"], "even"), turned_world(world) == world, len(all_tables(2)), all_tables(1)]
+# [True, True, ['odd'], 1, True, 8, [{('a', 'a'): 'a'}]]
+late = parting_world(["n", "n"], "s", 1)
+[holds(late, ["n", "n"], "s"), len(late.things()), parting_world(["n", goes], "s", 2), is_parting_world(["n", "n"], "s", world), parting_world([goes, "n"], "s", 1) is None, parting_world([goes, "n"], "s", 2) is None]
+# [False, 1, None, False, True, False]
+rows_giving(["n", goes], "s", 3)
+# [['n', ('under', 'n', 's')]]
+"""
+
+LINKS = """\
+from phrasejoins.derivations import told_by
+from phrasejoins.links import between, is_between, knots_ahead, links_of
+goes = ("under", "n", "s")
+sees = ("over", goes, "n")
+step = ("under used", 0, ("is", "n"), ("is", "s"))
+[knots_ahead(["n", goes], "s"), knots_ahead(["n"], ("over", "s", goes)), links_of(step), links_of(("over made", step)), knots_ahead(["n", "n"], "s")]
+# [3, 4, [(0, 1), (2, 3)], [(0, 1), (2, 3)], None]
+[is_between(["n", sees, "n"], "s", 1, 3, between(["n", sees, "n"], "s", 1, 3)), between(["n", "n"], "s", 0, 1), is_between(["n", goes], "s", 0, 1, ["n", ("is", "n"), step])]
+# [True, None, True]
+"""
+
 
 class Examples(unittest.TestCase):
     def play(self, block):
@@ -59,6 +108,18 @@ class Examples(unittest.TestCase):
 
     def test_giving(self):
         self.assertEqual(self.play(GIVING), 2)
+
+    def test_readings(self):
+        self.assertEqual(self.play(READINGS), 2)
+
+    def test_letters(self):
+        self.assertEqual(self.play(LETTERS), 3)
+
+    def test_worlds(self):
+        self.assertEqual(self.play(WORLDS), 4)
+
+    def test_links(self):
+        self.assertEqual(self.play(LINKS), 2)
 
 
 if __name__ == "__main__":
