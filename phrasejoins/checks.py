@@ -1,7 +1,7 @@
 """What the arguments of several modules are judged by."""
 
 from phrasejoins.errors import InvalidRow
-from phrasejoins.forms import is_kind
+from phrasejoins.forms import check_kind, is_kind
 
 
 def are_kinds(value):
@@ -24,3 +24,9 @@ def check_stretch(kinds):
     """Raises InvalidRow unless this is a list, perhaps empty, of types."""
     if not are_kinds(kinds):
         raise InvalidRow(kinds)
+
+
+def check_asked(row, goal):
+    """Raises InvalidRow unless this is a row, InvalidKind unless the goal is a type."""
+    check_row(row)
+    check_kind(goal)

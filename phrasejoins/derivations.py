@@ -1,8 +1,8 @@
 """Derivations: whether something is one, what it tells, and others made of it."""
 
-from phrasejoins.checks import check_row
+from phrasejoins.checks import check_asked
 from phrasejoins.errors import InvalidDerivation, InvalidPlace, Refused
-from phrasejoins.forms import check_kind, check_map, folded, plains_in, put_in, turned
+from phrasejoins.forms import check_map, folded, plains_in, put_in, turned
 from phrasejoins.knots import folded_knots, knots_in, telling_of, with_parts
 from phrasejoins.values import is_count
 
@@ -38,8 +38,7 @@ def told_by(derivation):
 
 def is_derivation_of(row, goal, value):
     """Whether any object is a derivation that tells a row and a goal."""
-    check_row(row)
-    check_kind(goal)
+    check_asked(row, goal)
     return telling_of(value) == (row, goal)
 
 

@@ -1,19 +1,13 @@
 """Which rows give which types: by a derivation, or not, by a closed wall (in names: bar)."""
 
 from phrasejoins.bars import bar_from, is_closed
-from phrasejoins.checks import check_row, check_stretch, is_row
+from phrasejoins.checks import check_asked, check_stretch, is_row
 from phrasejoins.cutting import derivation_without_cuts
 from phrasejoins.derivations import check_derivation
 from phrasejoins.forms import check_kind, is_kind
 from phrasejoins.pool import Pool
 from phrasejoins.search import Search
 from phrasejoins.ways import ways_back
-
-
-def _check_asked(row, goal):
-    """Raises InvalidRow unless this is a row, InvalidKind unless the goal is a type."""
-    check_row(row)
-    check_kind(goal)
 
 
 def _told_in(pool, asked):
@@ -24,7 +18,7 @@ def _told_in(pool, asked):
 
 def steps_back(row, goal):
     """The list of all ways in which a derivation may end but by "is" and by "cut"."""
-    _check_asked(row, goal)
+    check_asked(row, goal)
     pool = Pool()
     ways = ways_back(pool, pool.numbered(row), pool.number_of(goal))
     return [[_told_in(pool, asked) for asked in way[2]] for way in ways]
@@ -32,14 +26,14 @@ def steps_back(row, goal):
 
 def gives(row, goal):
     """Whether some derivation tells a row and a goal."""
-    _check_asked(row, goal)
+    check_asked(row, goal)
     pool = Pool()
     return Search(pool).holds(pool.numbered(row), pool.number_of(goal))
 
 
 def derivation_of(row, goal):
     """A derivation without a cut that tells a row and a goal, None if there is none."""
-    _check_asked(row, goal)
+    check_asked(row, goal)
     pool = Pool()
     search = Search(pool)
     numbers, number = pool.numbered(row), pool.number_of(goal)
@@ -50,7 +44,7 @@ def derivation_of(row, goal):
 
 def bar_of(row, goal):
     """A closed wall with a row and a goal in it, None if the row gives the goal."""
-    _check_asked(row, goal)
+    check_asked(row, goal)
     pool = Pool()
     search = Search(pool)
     numbers, number = pool.numbered(row), pool.number_of(goal)
@@ -70,7 +64,7 @@ def _are_rows_with_goals(value):
 
 def is_bar(row, goal, value):
     """Whether any object is a closed wall with a row and a goal in it."""
-    _check_asked(row, goal)
+    check_asked(row, goal)
     if not _are_rows_with_goals(value):
         return False
     pool = Pool()

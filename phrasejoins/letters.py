@@ -1,6 +1,6 @@
 """Letters: the members of the free group that types and rows stand for, and turns that tell them apart."""
 
-from phrasejoins.checks import check_row, check_stretch
+from phrasejoins.checks import check_asked, check_stretch
 from phrasejoins.errors import InvalidKind, InvalidLetters, InvalidTurns
 from phrasejoins.forms import check_kind, is_kind, plains_in
 from phrasejoins.group import do_cancel, gone_back, letters_along, letters_in, put_behind, without_round_ends
@@ -56,8 +56,7 @@ def turned_back(letters):
 
 def may_give(row, goal):
     """Whether a row has the letters of a goal."""
-    check_row(row)
-    check_kind(goal)
+    check_asked(row, goal)
     return letters_along(row) == letters_in(goal)
 
 

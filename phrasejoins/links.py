@@ -1,20 +1,14 @@
 """Links of plain types in derivations, and types between a stretch of a row and the rest."""
 
-from phrasejoins.checks import check_row
+from phrasejoins.checks import check_asked
 from phrasejoins.derivations import check_derivation, is_derivation_of
 from phrasejoins.errors import InvalidPlace, Refused
-from phrasejoins.forms import check_kind, is_kind, kinds_in
+from phrasejoins.forms import is_kind, kinds_in
 from phrasejoins.giving import derivation_of
 from phrasejoins.knots import knots_in
 from phrasejoins.stretches import between_along
 from phrasejoins.threads import links_in
 from phrasejoins.values import is_count
-
-
-def _check_asked(row, goal):
-    """Raises InvalidRow unless this is a row, InvalidKind unless the goal is a type."""
-    check_row(row)
-    check_kind(goal)
 
 
 def _parts_in(kinds):
@@ -24,7 +18,7 @@ def _parts_in(kinds):
 
 def knots_ahead(row, goal):
     """How many knots each derivation of a row and a goal without cuts has, "is" used of plain types alone."""
-    _check_asked(row, goal)
+    check_asked(row, goal)
     signs = len([part for part in _parts_in(row + [goal]) if isinstance(part, tuple)])
     ends = signs + len(row) + 1
     return signs + ends // 2 if ends % 2 == 0 else None
@@ -48,7 +42,7 @@ def _check_ends(row, first, last):
 
 def between(row, goal, first, last):
     """The list of a type between a stretch of a row and the rest and the two derivations that show it."""
-    _check_asked(row, goal)
+    check_asked(row, goal)
     _check_ends(row, first, last)
     derivation = derivation_of(row, goal)
     if derivation is None:
@@ -73,7 +67,7 @@ def _is_meagre(kind, others):
 
 def is_between(row, goal, first, last, value):
     """Whether any object is the list of a type between a stretch of a row and the rest and two such derivations."""
-    _check_asked(row, goal)
+    check_asked(row, goal)
     _check_ends(row, first, last)
     if not isinstance(value, list) or len(value) != 3 or not is_kind(value[0]):
         return False

@@ -1,15 +1,14 @@
 """Readings of rows free of then: heads, what waits for what, and how many readings there are."""
 
-from phrasejoins.checks import check_row
+from phrasejoins.checks import check_asked
 from phrasejoins.counting import Counting, head_and_waits
 from phrasejoins.errors import Refused
-from phrasejoins.forms import check_kind, is_free
+from phrasejoins.forms import is_free
 from phrasejoins.pool import Pool
 
 
 def _check_free(kind):
     """Raises InvalidKind unless this is a type, Refused unless it is free of then."""
-    check_kind(kind)
     if not is_free(kind):
         raise Refused(kind)
 
@@ -28,8 +27,7 @@ def waits_of(kind):
 
 def many_readings(row, goal):
     """How many readings of a goal a row has."""
-    check_row(row)
-    check_kind(goal)
+    check_asked(row, goal)
     if not all([is_free(kind) for kind in row]):
         raise Refused(row)
     if not is_free(goal):

@@ -1,6 +1,6 @@
 """Worlds: finite languages in which rows hold of types or do not."""
 
-from phrasejoins.checks import check_row, is_row
+from phrasejoins.checks import check_asked, check_row, is_row
 from phrasejoins.errors import InvalidCount, InvalidKind, InvalidLots, InvalidRow, InvalidTable, InvalidWorld
 from phrasejoins.forms import check_kind, is_kind, plains_in
 from phrasejoins.lots import Lots, are_lots
@@ -135,8 +135,7 @@ def _all_plain_lots(plains, things):
 
 def parting_world(row, kind, many):
     """A world of at most so many things in which a row does not hold of a type, None if there is none."""
-    check_row(row)
-    check_kind(kind)
+    check_asked(row, kind)
     _check_many(many, 2)
     plains = plains_in(row + [kind])
     for things in _things_up_to(many):
@@ -150,8 +149,7 @@ def parting_world(row, kind, many):
 
 def is_parting_world(row, kind, value):
     """Whether any object is a world, with the plain types in a row and a type or more, in which it does not hold."""
-    check_row(row)
-    check_kind(kind)
+    check_asked(row, kind)
     return isinstance(value, World) and _knows(value, row + [kind]) and not holds(value, row, kind)
 
 

@@ -246,13 +246,17 @@ class Parting(unittest.TestCase):
             self.assertIsNone(parting_world(["n"], "n", many))
 
     def test_not_parted_by_so_small_ones(self):
-        # Neither row gives the type; a table of more things parts each of them.
-        three = [("over", "p", "p")]
-        row, kind = ["p", "p", "p"], ("then", "p", "p")
+        row, kind = ["p", "p", "p"], ("over", ("then", "p", "p"), "p")
         self.assertIs(gives(row, kind), False)
-        unparted = [(row, kind) for row in [["p"] * 3, ["p"] * 4, three] for kind in all_kinds(["p"], 2)
+        self.assertIsNone(parting_world(row, kind, 2))
+        # Of three things, counted up to three: one and one are two, and all else is three.
+        three = {(x, y): "three" for x in ["one", "three", "two"] for y in ["one", "three", "two"]}
+        greater = World({**three, ("one", "one"): "two"}, {"p": ["one"]})
+        self.assertIs(is_parting_world(row, kind, greater), True)
+        rows = [["p"] * 3, ["p"] * 4, [("over", "p", "p")]]
+        unparted = [(row, kind) for row in rows for kind in all_kinds(["p"], 2)
                     if not gives(row, kind) and parting_world(row, kind, 2) is None]
-        self.assertGreater(len(unparted), 0)
+        self.assertIn((row, kind), unparted)
         for row, kind in unparted:
             for table in all_tables(2):
                 for lot in [[], ["a"], ["b"], ["a", "b"]]:
