@@ -1,7 +1,8 @@
 """What the arguments of several modules are judged by."""
 
-from phrasejoins.errors import InvalidRow
+from phrasejoins.errors import InvalidCount, InvalidPlace, InvalidRow
 from phrasejoins.forms import check_kind, is_kind
+from phrasejoins.values import is_count
 
 
 def are_kinds(value):
@@ -30,3 +31,17 @@ def check_asked(row, goal):
     """Raises InvalidRow unless this is a row, InvalidKind unless the goal is a type."""
     check_row(row)
     check_kind(goal)
+
+
+def check_places(row, first, last):
+    """Raises InvalidPlace unless a stretch of a row begins at the first and ends ahead of the last place."""
+    if not is_count(first) or first >= len(row):
+        raise InvalidPlace(first)
+    if not is_count(last) or not first < last <= len(row):
+        raise InvalidPlace(last)
+
+
+def check_many(many, most):
+    """Raises InvalidCount unless this is a count from 1 to the most."""
+    if not is_count(many) or not 1 <= many <= most:
+        raise InvalidCount(many)

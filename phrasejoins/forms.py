@@ -64,6 +64,19 @@ def plains_in(kinds):
     return sorted(set([part for kind in kinds for part in kinds_in(kind) if isinstance(part, str)]))
 
 
+def has_sign(kind, sign):
+    """Whether a type is not plain and has this sign ahead of its two parts."""
+    return isinstance(kind, tuple) and kind[0] == sign
+
+
+def then_of(kinds):
+    """Some types, at least one, put together by "then" from the left."""
+    whole = kinds[0]
+    for kind in kinds[1:]:
+        whole = ("then", whole, kind)
+    return whole
+
+
 def plains_of(kind):
     """The ascending list of the plain types in a type."""
     check_kind(kind)
@@ -111,7 +124,7 @@ def put_for(kind, sent):
     return put_in(kind, sent)
 
 
-def _check_plains(plains):
+def check_plains(plains):
     """Raises InvalidPlains unless this is an ascending list, not empty, of words."""
     if not isinstance(plains, list) or not plains or not all([is_word(word) for word in plains]):
         raise InvalidPlains(plains)
@@ -119,7 +132,7 @@ def _check_plains(plains):
         raise InvalidPlains(plains)
 
 
-def _check_count(number):
+def check_count(number):
     """Raises InvalidCount unless this is a count."""
     if not is_count(number):
         raise InvalidCount(number)
@@ -127,8 +140,8 @@ def _check_count(number):
 
 def all_kinds(plains, number):
     """The list of all types with so many signs whose plain types are of a list."""
-    _check_plains(plains)
-    _check_count(number)
+    check_plains(plains)
+    check_count(number)
     by_signs = [list(plains)]
     for many in range(1, number + 1):
         made = [
@@ -144,8 +157,8 @@ def all_kinds(plains, number):
 
 def many_kinds(plains, number):
     """How many types all_kinds lists."""
-    _check_plains(plains)
-    _check_count(number)
+    check_plains(plains)
+    check_count(number)
     by_signs = [len(plains)]
     for many in range(1, number + 1):
         pairs = sum([by_signs[ahead] * by_signs[many - 1 - ahead] for ahead in range(many)])

@@ -1,8 +1,9 @@
 """Letters: the members of the free group that types and rows stand for, and turns that tell them apart."""
 
+from phrasejoins.bricks import bricks_of
 from phrasejoins.checks import check_asked, check_stretch
 from phrasejoins.errors import InvalidKind, InvalidLetters, InvalidTurns
-from phrasejoins.forms import check_kind, is_kind, plains_in
+from phrasejoins.forms import check_kind, is_kind, plains_in, then_of
 from phrasejoins.group import do_cancel, gone_back, letters_along, letters_in, put_behind, without_round_ends
 from phrasejoins.turns import are_turns, turn_in, turns_along
 from phrasejoins.values import is_word
@@ -75,14 +76,7 @@ def plain_form(letters, plain):
     _check_letters(letters)
     if not is_word(plain):
         raise InvalidKind(plain)
-    nothing = ("over", plain, plain)
-    kinds = [word if sign == 1 else ("over", nothing, word) for word, sign in letters]
-    if not kinds:
-        return nothing
-    form = kinds[0]
-    for kind in kinds[1:]:
-        form = ("then", form, kind)
-    return form
+    return then_of(bricks_of(letters, plain))
 
 
 def _tell_turns(turns, kind):

@@ -1,14 +1,13 @@
 """Links of plain types in derivations, and types between a stretch of a row and the rest."""
 
-from phrasejoins.checks import check_asked
+from phrasejoins.checks import check_asked, check_places
 from phrasejoins.derivations import check_derivation, is_derivation_of
-from phrasejoins.errors import InvalidPlace, Refused
+from phrasejoins.errors import Refused
 from phrasejoins.forms import is_kind, kinds_in
 from phrasejoins.giving import derivation_of
 from phrasejoins.knots import knots_in
 from phrasejoins.stretches import between_along
 from phrasejoins.threads import links_in
-from phrasejoins.values import is_count
 
 
 def _parts_in(kinds):
@@ -32,18 +31,10 @@ def links_of(derivation):
     return links_in(derivation)
 
 
-def _check_ends(row, first, last):
-    """Raises InvalidPlace unless a stretch of a row begins at the first and ends ahead of the last place."""
-    if not is_count(first) or first >= len(row):
-        raise InvalidPlace(first)
-    if not is_count(last) or not first < last <= len(row):
-        raise InvalidPlace(last)
-
-
 def between(row, goal, first, last):
     """The list of a type between a stretch of a row and the rest and the two derivations that show it."""
     check_asked(row, goal)
-    _check_ends(row, first, last)
+    check_places(row, first, last)
     derivation = derivation_of(row, goal)
     if derivation is None:
         return None
@@ -68,7 +59,7 @@ def _is_meagre(kind, others):
 def is_between(row, goal, first, last, value):
     """Whether any object is the list of a type between a stretch of a row and the rest and two such derivations."""
     check_asked(row, goal)
-    _check_ends(row, first, last)
+    check_places(row, first, last)
     if not isinstance(value, list) or len(value) != 3 or not is_kind(value[0]):
         return False
     kind, inner, outer = value

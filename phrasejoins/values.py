@@ -13,3 +13,8 @@ def is_word(value):
 def is_count(value):
     """Whether any object is a whole number of at least 0; True and False are none."""
     return isinstance(value, int) and not isinstance(value, bool) and value >= 0
+
+
+def are_different(things):
+    """Whether no two things of a list are equal."""
+    return all([things[place] not in things[:place] for place in range(len(things))])

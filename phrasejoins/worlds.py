@@ -1,13 +1,13 @@
 """Worlds: finite languages in which rows hold of types or do not."""
 
-from phrasejoins.checks import check_asked, check_row, is_row
-from phrasejoins.errors import InvalidCount, InvalidKind, InvalidLots, InvalidRow, InvalidTable, InvalidWorld
+from phrasejoins.checks import check_asked, check_many, check_row, is_row
+from phrasejoins.errors import InvalidKind, InvalidLots, InvalidRow, InvalidTable, InvalidWorld
 from phrasejoins.forms import check_kind, is_kind, plains_in
 from phrasejoins.lots import Lots, are_lots
 from phrasejoins.pool import Pool
 from phrasejoins.search import Search
 from phrasejoins.tables import is_table, tables_of, things_in, turned_table
-from phrasejoins.values import is_count
+from phrasejoins.values import are_different
 
 
 class World:
@@ -111,12 +111,6 @@ def holds(world, row, kind):
     return not escaping(world, row, kind)
 
 
-def _check_many(many, most):
-    """Raises InvalidCount unless this is a count from 1 to the most."""
-    if not is_count(many) or not 1 <= many <= most:
-        raise InvalidCount(many)
-
-
 def _things_up_to(many):
     """The lists of things of which the smallest tables are made."""
     return [["a"], ["a", "b"]][:many]
@@ -136,7 +130,7 @@ def _all_plain_lots(plains, things):
 def parting_world(row, kind, many):
     """A world of at most so many things in which a row does not hold of a type, None if there is none."""
     check_asked(row, kind)
-    _check_many(many, 2)
+    check_many(many, 2)
     plains = plains_in(row + [kind])
     for things in _things_up_to(many):
         for table in tables_of(things):
@@ -156,7 +150,7 @@ def is_parting_world(row, kind, value):
 def _check_choice(kinds):
     """Raises InvalidRow unless this is a list, not empty, of different types."""
     check_row(kinds)
-    if not all([kinds[place] not in kinds[:place] for place in range(len(kinds))]):
+    if not are_different(kinds):
         raise InvalidRow(kinds)
 
 
@@ -164,7 +158,7 @@ def rows_giving(kinds, kind, number):
     """The list of all rows of at most so many types of a list that give a type, the shorter ones first."""
     _check_choice(kinds)
     check_kind(kind)
-    _check_many(number, 3)
+    check_many(number, 3)
     pool = Pool()
     search = Search(pool)
     choice = pool.numbered(kinds)
@@ -185,5 +179,5 @@ def turned_world(world):
 
 def all_tables(many):
     """The list of all tables with the thing a, or with the things a and b."""
-    _check_many(many, 2)
+    check_many(many, 2)
     return tables_of(_things_up_to(many)[-1])

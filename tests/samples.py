@@ -1,5 +1,6 @@
 """Values that the tests share: right ones, wrong ones, and slow ways to judge results by."""
 
+from phrasejoins.books import Book
 from phrasejoins.errors import InvalidKind, PhraseError, Refused
 from phrasejoins.pool import Pool
 from phrasejoins.worlds import World
@@ -43,9 +44,16 @@ PARITY = {("even", "even"): "even", ("even", "odd"): "odd", ("odd", "even"): "od
 PARITY_LOTS = {"n": ["odd"], "s": ["even"]}
 WORLD = World(PARITY, PARITY_LOTS)
 
-# Fresh ones of classes of the package, of no use as any argument but as a world.
-NO_WORLD_OBJECTS = [PhraseError(), InvalidKind("n"), Refused(), Pool()]
-OBJECTS = NO_WORLD_OBJECTS + [WORLD]
+BOOK = Book({"all": [RAISED], "ann": ["n"], "run": [GOES], "see": [SEES, GOES]}, "s")
+
+# Of classes of the package, of no use as any argument but as a world or a book.
+OBJECTS = [PhraseError(), InvalidKind("n"), Refused(), Pool(), WORLD, BOOK]
+
+
+def objects_but(made):
+    """Those that are of another class."""
+    return [thing for thing in OBJECTS if not isinstance(thing, made)]
+
 
 NO_KINDS = [
     None, True, False, 0, 1, -1, 10 ** 29, "", "N", "n1", "ninechars", "two words", "n\n", "\tn", "n ", "n~",
@@ -152,7 +160,7 @@ NO_LOTS = [
 NO_WORLDS = [
     None, True, False, 0, 1, "", "n", "world", [], (), {}, PARITY, PARITY_LOTS, (PARITY, PARITY_LOTS),
     [PARITY, PARITY_LOTS], {"n": ["odd"]}, [WORLD], (WORLD,), {"world": WORLD}, World,
-] + NO_WORLD_OBJECTS
+] + objects_but(World)
 
 NO_THINGS = [
     None, True, False, 0, 1, "", "n", "none", "Odd", "odd ", [], ["odd"], (), ("odd",), ("odd", "odd"), {}, {"odd": 1},

@@ -84,7 +84,7 @@ FUNCTIONS = [
     (giving.gives, [ROW, GOAL]),
     (giving.derivation_of, [ROW, GOAL]),
     (giving.bar_of, [ROW, ("goal", "n", InvalidKind, samples.NO_KINDS)]),
-    (giving.is_bar, [ROW, GOAL, JUDGED_BAR]),
+    (giving.is_bar, [ROW, ("goal", "n", InvalidKind, samples.NO_KINDS), JUDGED_BAR]),
     (giving.without_cuts, [DERIVATION]),
     (giving.waits_for, [AHEAD, GOAL, BEHIND]),
     (readings.head_of, [KIND]),
@@ -111,7 +111,9 @@ FUNCTIONS = [
     (worlds.holds, [WORLD, KNOWN_ROW, KNOWN_KIND]),
     (worlds.escaping, [WORLD, KNOWN_ROW, KNOWN_KIND]),
     (worlds.parting_world, [ROW, KIND, MANY]),
-    (worlds.is_parting_world, [ROW, ("kind", "s", InvalidKind, samples.NO_KINDS), JUDGED_WORLD]),
+    (worlds.is_parting_world, [
+        ("row", ["n", "n"], InvalidRow, samples.NO_ROWS), ("kind", "s", InvalidKind, samples.NO_KINDS), JUDGED_WORLD,
+    ]),
     (worlds.rows_giving, [
         ("kinds", ["n", samples.GOES], InvalidRow, samples.NO_ROWS + ALIKE),
         ("kind", "s", InvalidKind, samples.NO_KINDS),

@@ -6,10 +6,13 @@ import inspect
 import unittest
 
 from phrasejoins import errors
+from phrasejoins.books import Book
 from phrasejoins.worlds import World
-from tests.table import FUNCTIONS
+from tests import table, table_joins
 
+FUNCTIONS = table.FUNCTIONS + table_joins.FUNCTIONS
 INTERFACE = {
+    **table_joins.INTERFACE,
     "forms": [
         "is_kind(value)", "signs_of(kind)", "plains_of(kind)", "is_free(kind)", "turned(kind)", "put_for(kind, sent)",
         "all_kinds(plains, number)", "many_kinds(plains, number)",
@@ -42,13 +45,20 @@ INTERFACE = {
 }
 
 # The methods of each class, with their parameters.
-METHODS = {World: ["table()", "lots()", "things()", "plains()", "__eq__(other)"]}
+METHODS = {**table_joins.METHODS, World: ["table()", "lots()", "things()", "plains()", "__eq__(other)"]}
+
+
+def rights(parameters):
+    """New right arguments."""
+    return copy.deepcopy([right for name, right, made, wrong in parameters])
 
 
 def shown(value):
     """The text of any result or argument, worlds with all that they tell."""
     if isinstance(value, World):
         return f"World({shown(value.table())}, {shown(value.lots())}, {value.things()}, {value.plains()})"
+    if isinstance(value, Book):
+        return f"Book({shown(value.words())}, {shown(value.goal())})"
     if isinstance(value, dict):
         return "{" + ", ".join(f"{shown(key)}: {shown(part)}" for key, part in value.items()) + "}"
     if isinstance(value, (list, tuple)):
@@ -68,6 +78,8 @@ def emptied(result):
         result.clear()
     if isinstance(result, World):
         emptied([result.table(), result.lots(), result.things(), result.plains()])
+    if isinstance(result, Book):
+        emptied([result.words()])
 
 
 class Arguments(unittest.TestCase):
@@ -97,15 +109,16 @@ class Arguments(unittest.TestCase):
 
     def test_by_place_and_by_name(self):
         for function, parameters in FUNCTIONS:
-            by_place = function(*[right for name, right, made, wrong in parameters])
-            by_name = function(**{name: right for name, right, made, wrong in parameters})
+            by_place = function(*rights(parameters))
+            names = [name for name, right, made, wrong in parameters]
+            by_name = function(**dict(zip(names, rights(parameters))))
             self.assertEqual(shown(by_place), shown(by_name))
 
     def test_each_wrong_argument(self):
         for function, parameters in FUNCTIONS:
             for place, (name, right, made, many_wrong) in enumerate(parameters):
                 for wrong in many_wrong:
-                    arguments = [right for _, right, _, _ in parameters]
+                    arguments = rights(parameters)
                     arguments[place] = wrong
                     if made is None:
                         self.assertIs(function(*arguments), False, (function, arguments))
@@ -119,7 +132,7 @@ class Arguments(unittest.TestCase):
                     continue
                 for later in range(place + 1, len(parameters)):
                     for wrong, other in zip(many_wrong, parameters[later][3]):
-                        arguments = [right for _, right, _, _ in parameters]
+                        arguments = rights(parameters)
                         arguments[place] = wrong
                         arguments[later] = other
                         self.assert_raised(function, arguments, made, wrong)
@@ -128,29 +141,31 @@ class Arguments(unittest.TestCase):
         everything = [wrong for function, parameters in FUNCTIONS for entry in parameters for wrong in entry[3]]
         for function, parameters in FUNCTIONS:
             if parameters[-1][0] == "value":
-                rights = [entry[1] for entry in parameters[:-1]]
+                arguments = rights(parameters[:-1])
+                self.assertIs(function(*arguments, parameters[-1][1]), True, function)
                 for value in everything:
-                    self.assertIn(function(*rights, value), [True, False])
+                    self.assertIn(function(*arguments, value), [True, False])
 
     def test_arguments_are_not_changed(self):
         for function, parameters in FUNCTIONS:
-            arguments = [right for name, right, made, wrong in parameters]
-            kept = copy.deepcopy(arguments)
+            arguments = rights(parameters)
+            kept = shown(arguments)
             function(*arguments)
-            self.assertEqual(shown(arguments), shown(kept))
+            self.assertEqual(shown(arguments), kept)
 
     def test_results_are_new_and_equal(self):
         for function, parameters in FUNCTIONS:
-            arguments = [right for name, right, made, wrong in parameters]
+            arguments = rights(parameters)
             first = function(*arguments)
             told = shown(first)
-            self.assertEqual(shown(function(*arguments)), told)
+            self.assertEqual(shown(function(*rights(parameters))), told)
             emptied(first)
+            self.assertEqual(shown(function(*rights(parameters))), told)
             self.assertEqual(shown(function(*arguments)), told)
 
     def test_results_do_not_hold_arguments(self):
         for function, parameters in FUNCTIONS:
-            arguments = copy.deepcopy([right for name, right, made, wrong in parameters])
+            arguments = rights(parameters)
             result = function(*arguments)
             told = shown(result)
             emptied(arguments)

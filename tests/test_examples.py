@@ -83,6 +83,54 @@ step = ("under used", 0, ("is", "n"), ("is", "s"))
 # [True, None, True]
 """
 
+BOOKS = r"""
+from phrasejoins.books import Book, can_stand, choices, is_let, many_sentences, parting_goal, sentences_of
+goes = ("under", "n", "s")
+book = Book({"all": [("over", "s", goes)], "ann": ["n"], "run": [goes], "see": [("over", goes, "n"), goes]}, "s")
+[is_let(book, ["ann", "see", "ann"]), choices(book, ["ann", "see"]), is_let(book, ["all", "run"]), can_stand(book, "ann", "all"), can_stand(book, "all", "ann"), parting_goal(book, "all", "ann")]
+# [True, [['n', ('under', 'n', 's')]], True, True, False, 'n']
+[can_stand(book, "see", "run"), parting_goal(book, "run", "see"), [many_sentences(book, number) for number in [1, 2, 3]], sentences_of(book, 2)]
+# [True, ('over', ('under', 'n', 's'), 'n'), [0, 4, 2], [['all', 'run'], ['all', 'see'], ['ann', 'run'], ['ann', 'see']]]
+"""
+
+CHAINS = r"""
+from phrasejoins.chains import are_alike, cancelled_behind, chain_of, form_chain, is_chain, kinds_along, shortened, through_first, through_second
+goes = ("under", "n", "s")
+back = ("over", "p", ("over", "p", "p"))
+step = ("on", ("over made", ("under used", 0, ("is", "n"), ("is", "s"))))
+[are_alike("p", back), are_alike("p", "q"), is_chain("n", ("over", "s", goes), [step]), is_chain(("over", "s", goes), "n", [step]), is_chain("n", "n", []), is_chain("p", back, chain_of("p", back)), chain_of("p", "q")]
+# [True, False, True, False, True, True, None]
+[kinds_along(through_first([step], "then", "q")), kinds_along(through_second([step], "over", "p")), is_chain(goes, ("then", ("over", ("over", "n", "n"), "n"), "s"), form_chain(goes, "n")), shortened([step, ("back", step[1])])]
+# [[('then', 'n', 'q'), ('then', ('over', 's', ('under', 'n', 's')), 'q')], [('over', 'p', 'n'), ('over', 'p', ('over', 's', ('under', 'n', 's')))], True, []]
+"""
+
+BOUNDS = r"""
+from phrasejoins.bounds import above, below, is_above, is_above_paper, is_below, is_below_paper, least_above, lowered, raised
+goes = ("under", "n", "s")
+raise_n = ("over", "s", goes)
+back = ("over", "p", ("over", "p", "p"))
+made = ("over made", ("under used", 0, ("is", "n"), ("is", "s")))
+[is_above(["n", raise_n], raise_n), is_below(["n", raise_n], "n"), above(["p", "q"]), is_above_paper(["p", back], above(["p", back])), is_below_paper(["p", back], below(["p", back])), least_above(["p", back], ["p"], 2)]
+# [True, True, None, True, True, None]
+[raised(("is", "n"), made)[0], lowered(made, ("is", raise_n))[0] == ("then", ("then", ("over", "n", raise_n), raise_n), ("under", raise_n, raise_n))]
+# [('under', ('over', 'n', 'n'), ('over', 'n', ('under', ('over', 's', ('under', 'n', 's')), 'n'))), True]
+"""
+
+JOINS = r"""
+from phrasejoins.joins import and_type, can_join, can_join_at, is_joined, is_joined_at, is_why_not_joined, join_classes, joined, joined_at, joining, place_type, why_not_joined
+from phrasejoins.derivations import told_by
+goes = ("under", "n", "s")
+back = ("over", "p", ("over", "p", "p"))
+[can_join(["n"], [("over", "s", goes)]), can_join(["n"], ["s"]), joined(["n"], ["s"]), can_join(["p"], [back]), can_join(["n", goes], ["s"]), is_joined(["p"], [back], joined(["p"], [back]))]
+# [True, False, None, True, True, True]
+[and_type("n"), told_by(joining(["n"], ["n"], "n")), place_type(["n", ("over", goes, "n"), "n"], 1, 3, "s"), place_type(["n", goes], 0, 1, "s")]
+# [('over', ('under', 'n', 'n'), 'n'), (['n', ('over', ('under', 'n', 'n'), 'n'), 'n'], 'n'), ('under', 'n', 's'), ('over', 's', ('under', 'n', 's'))]
+[can_join_at(["n", goes], 0, 1, [("over", "s", goes)], "s"), can_join_at(["n", goes], 0, 1, ["s"], "s"), is_joined_at(["n", goes], 0, 1, ["n"], "s", joined_at(["n", goes], 0, 1, ["n"], "s"))]
+# [True, False, True]
+[join_classes([["n"], ["s"], ["n", goes], [("over", "s", goes)]]), why_not_joined(["n", goes], ["s"]), is_why_not_joined(["n"], ["s"], {"n": [0, 1], "s": [1, 0]}), is_why_not_joined(["n"], ["s"], why_not_joined(["n"], ["s"]))]
+# [[[0, 3], [1, 2]], None, True, True]
+"""
+
 
 class Examples(unittest.TestCase):
     def play(self, block):
@@ -120,6 +168,18 @@ class Examples(unittest.TestCase):
 
     def test_links(self):
         self.assertEqual(self.play(LINKS), 2)
+
+    def test_books(self):
+        self.assertEqual(self.play(BOOKS), 2)
+
+    def test_chains(self):
+        self.assertEqual(self.play(CHAINS), 2)
+
+    def test_bounds(self):
+        self.assertEqual(self.play(BOUNDS), 2)
+
+    def test_joins(self):
+        self.assertEqual(self.play(JOINS), 4)
 
 
 if __name__ == "__main__":
