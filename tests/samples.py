@@ -1,6 +1,7 @@
 """Values that the tests share: right ones, wrong ones, and slow ways to judge results by."""
 
 from phrasejoins.books import Book
+from phrasejoins.desk import Desk
 from phrasejoins.errors import InvalidKind, PhraseError, Refused
 from phrasejoins.pool import Pool
 from phrasejoins.worlds import World
@@ -45,9 +46,10 @@ PARITY_LOTS = {"n": ["odd"], "s": ["even"]}
 WORLD = World(PARITY, PARITY_LOTS)
 
 BOOK = Book({"all": [RAISED], "ann": ["n"], "run": [GOES], "see": [SEES, GOES]}, "s")
+DESK = Desk("s")
 
-# Of classes of the package, of no use as any argument but as a world or a book.
-OBJECTS = [PhraseError(), InvalidKind("n"), Refused(), Pool(), WORLD, BOOK]
+# Of classes of the package, of no use as any argument but as a world, a book or a desk.
+OBJECTS = [PhraseError(), InvalidKind("n"), Refused(), Pool(), WORLD, BOOK, DESK, DESK.trial()]
 
 
 def objects_but(made):

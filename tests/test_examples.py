@@ -131,6 +131,46 @@ back = ("over", "p", ("over", "p", "p"))
 # [[[0, 3], [1, 2]], None, True, True]
 """
 
+CHANGES = r"""
+from phrasejoins.changes import composing, dividing, packing, parting, raising, swapping
+from phrasejoins.derivations import told_by
+goes = ("under", "n", "s")
+[told_by(raising("n", "s", "over")), told_by(raising("n", "s", "under")), told_by(composing(("over", "s", "n"), ("over", "n", "p")))]
+# [(['n'], ('over', 's', ('under', 'n', 's'))), (['n'], ('under', ('over', 's', 'n'), 's')), ([('over', 's', 'n'), ('over', 'n', 'p')], ('over', 's', 'p'))]
+[told_by(dividing(("over", "s", "n"), "p")), told_by(swapping(("over", goes, "n"))), told_by(parting(("over", "s", ("then", "n", "p")))), told_by(packing(("over", ("over", "s", "p"), "n")))]
+# [([('over', 's', 'n')], ('over', ('over', 's', 'p'), ('over', 'n', 'p'))), ([('over', ('under', 'n', 's'), 'n')], ('under', 'n', ('over', 's', 'n'))), ([('over', 's', ('then', 'n', 'p'))], ('over', ('over', 's', 'p'), 'n')), ([('over', ('over', 's', 'p'), 'n')], ('over', 's', ('then', 'n', 'p')))]
+"""
+
+DESK = r"""
+from phrasejoins.desk import Desk, replayed
+desk = Desk("s")
+goes = ("under", "n", "s")
+[desk.put(0, goes), desk.can_give(), desk.put(0, "n"), desk.row(), desk.gives(), desk.letters()]
+# [None, False, None, ['n', ('under', 'n', 's')], True, [('s', 1)]]
+[desk.make(0, ("over", "s", goes)), desk.gives(), desk.use(0), desk.row(), desk.record()[2:], desk.undo(), desk.row()[0]]
+# [None, True, None, ['s'], [('make', 0, ('over', 's', ('under', 'n', 's'))), ('use', 0)], None, ('over', 's', ('under', 'n', 's'))]
+[replayed(desk, [("take", 1)]).row(), desk.attempt(lambda inner: [inner.take(0), inner.gives()]), desk.gives()]
+# [[('over', 's', ('under', 'n', 's'))], [('over', 's', ('under', 'n', 's')), False], True]
+"""
+
+SCRIPTS = r"""
+from phrasejoins.desk import Desk
+from phrasejoins.scripts import end_of, needless, play, read_script, script_text
+goes = ("under", "n", "s")
+script = [("put", 0, "n"), ("put", 1, goes), ("try", [("use", 0), ("take", 4)]), ("use", 0), ("undo",)]
+play(Desk("s"), script)
+# [('told', None), ('told', None), ('tried', [('told', None), ('refused', 'InvalidPlace')]), ('told', None), ('told', None)]
+[end_of("s", script), needless("s", script), read_script(script_text(script)) == script, play(Desk("s"), [("undo",), ("make", 0, "n")])]
+# [(['n', ('under', 'n', 's')], True), [2], True, [('refused', 'NothingToUndo'), ('refused', 'InvalidPlace')]]
+"""
+
+PAPERS = r"""
+from phrasejoins.papers import kind_text, kinds_text, read_kind, read_kinds, read_row, row_text
+goes = ("under", "n", "s")
+[kind_text(("over", goes, "n")), read_kind("(s over (n under s))"), row_text(["n", goes]), read_row("n, (n then s)"), kinds_text(["n", goes]), read_kinds("p")]
+# ['((n under s) over n)', ('over', 's', ('under', 'n', 's')), 'n, (n under s)', ['n', ('then', 'n', 's')], 'n\n(n under s)', ['p']]
+"""
+
 
 class Examples(unittest.TestCase):
     def play(self, block):
@@ -180,6 +220,18 @@ class Examples(unittest.TestCase):
 
     def test_joins(self):
         self.assertEqual(self.play(JOINS), 4)
+
+    def test_changes(self):
+        self.assertEqual(self.play(CHANGES), 2)
+
+    def test_desk(self):
+        self.assertEqual(self.play(DESK), 3)
+
+    def test_scripts(self):
+        self.assertEqual(self.play(SCRIPTS), 2)
+
+    def test_papers(self):
+        self.assertEqual(self.play(PAPERS), 1)
 
 
 if __name__ == "__main__":
