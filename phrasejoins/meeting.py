@@ -11,7 +11,8 @@ from phrasejoins.steps import ends_of_step
 
 def raised_from(first, second):
     """The type above the goals of two derivations of one low type, and the derivations that tell it."""
-    (low,), one = telling_of(first)
+    row, one = telling_of(first)
+    low = row[0]
     other = telling_of(second)[1]
     kind = ("under", ("over", low, one), ("over", low, ("under", other, low)))
     mine = ("over used", 0, ("is", one), ("under used", 0, second, ("is", low)))
@@ -21,8 +22,9 @@ def raised_from(first, second):
 
 def lowered_to(first, second):
     """The type below the types of two derivations of one high goal, and the derivations that tell it."""
-    (one,), high = telling_of(first)
-    (other,), _ = telling_of(second)
+    row, high = telling_of(first)
+    one = row[0]
+    other = telling_of(second)[0][0]
     kind = ("then", ("then", ("over", one, high), high), ("under", high, other))
     mine = ("over used", 0, ("under used", 0, ("is", high), second), ("is", one))
     theirs = ("under used", 0, ("over used", 0, ("is", high), first), ("is", other))
